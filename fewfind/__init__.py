@@ -1,0 +1,1 @@
+"""Fewfind: names found by a few of their letters."""
