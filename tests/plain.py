@@ -44,12 +44,50 @@ def plain_points(query, name, laying):
     return total
 
 
+@functools.lru_cache(maxsize=None)
 def plain_best(query, name):
     counted = [(-plain_points(query, name, laying), laying) for laying in all_layings(query, name)]
     if not counted:
         return None
     least = min(counted)
     return (-least[0], least[1])
+
+
+def plain_rows(names, query):
+    """Tuples (points, number) of all names that fit, by rising numbers."""
+    laid = [(plain_best(query, name), number) for number, name in enumerate(names)]
+    return [(told[0], number) for told, number in laid if told is not None]
+
+
+def plain_found(names, query):
+    """All that is found, in its order."""
+    rows = plain_rows(names, query)
+    # Sorting keeps the order of what is alike, so the last sorting is the one that weighs most.
+    rows.sort(key=lambda row: len(names[row[1]]))
+    rows.sort(key=lambda row: row[0], reverse=True)
+    return rows
+
+
+def plain_bound(query, name):
+    total = 0
+    for sign in query:
+        alone = [plain_points(sign, name, laying) + min(laying[0], 3) for laying in all_layings(sign, name)]
+        if not alone:
+            return None
+        total += max(alone)
+    return total + sum(7 for sign in query[1:])
+
+
+def plain_found_by_bound(names, query, many):
+    bounds = [(plain_bound(query, name), number) for number, name in enumerate(names)]
+    ahead = sorted((-limit, number) for limit, number in bounds if limit is not None)
+    for laid in range(len(ahead) + 1):
+        taken = {number for limit, number in ahead[:laid]}
+        first = [row for row in plain_found(names, query) if row[1] in taken][:many]
+        if many == 0 or laid == len(ahead):
+            return (first, laid)
+        if len(first) == many and first[-1][0] > -ahead[laid][0]:
+            return (first, laid)
 
 
 # Names and queries of few signs in all their orders, and longer ones of every kind of sign.
@@ -69,4 +107,16 @@ LONG_NAMES = [
 LONG_QUERIES = [
     "", "s", "sf", "srcfind", "rm", "readme", "hs2", "HS2", "http", "hTTp", "httpserv", "aaaa", "aAa",
     "aaaaaaaa", "abcdefgh", "ab12", "AB12", "aB", "z9z9", "Z9", "msp", "MISS", "misSIPP", "sssssSSS", "q", "txt",
+]
+# Lists of names: of one kind, with some alike, with some that no query fits.
+NAME_LISTS = [
+    [],
+    ["a"],
+    ["_"],
+    ["ab", "ab", "ab"],
+    LONG_NAMES,
+    [name for name in words("aAb", 3) if name],
+    [name for name in words("ab_", 3) if name][::-1],
+    ["xxa", "a", "ba", "a_b", "aB", "ab", "a", "b_a", "bA", "A", "a.B", "a9B", "AB", "xxxaxxxb", "b", "a_b", "_"],
+    ["few_find", "fewFind", "few-find.py", "FewFind", "src/few/find", "ff", "fif", "fFf", "FF", "find_few", "f.f"],
 ]

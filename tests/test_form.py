@@ -119,6 +119,41 @@ class Form(unittest.TestCase):
             elif isinstance(node, ast.Attribute) and node.attr in PYTHONS_OWN:
                 self.assertIn(node.attr, METHODS | {"__init__", "add", "discard"}, at)
 
+    def test_methods_and_values_of_objects(self):
+        methods = set()
+        values = set()
+        for at, node in self.nodes():
+            if isinstance(node, ast.ClassDef):
+                self.assertLessEqual(len(node.bases), 1, at)
+                for part in node.body:
+                    self.assertIsInstance(part, (ast.FunctionDef, ast.Pass), at)
+                own = [part.name for part in node.body if isinstance(part, ast.FunctionDef)]
+                self.assertEqual(len(own), len(set(own)), at)
+                methods |= set(own)
+            elif isinstance(node, ast.Attribute) and isinstance(node.ctx, ast.Store):
+                self.assertIsInstance(node.value, ast.Name, at)
+                values.add(node.attr)
+        self.assertEqual(methods & values, set())
+        self.assertEqual(values & PYTHONS_OWN, set())
+        self.assertLessEqual(methods & PYTHONS_OWN, METHODS | {"__init__", "add", "discard"})
+
+    def test_locals_are_not_called_like_imports_or_classes(self):
+        for path, tree in self.trees():
+            taken = {alias.name for node in tree.body if isinstance(node, ast.ImportFrom) for alias in node.names}
+            taken |= {node.name for node in tree.body if isinstance(node, ast.ClassDef)}
+            for node in ast.walk(tree):
+                if isinstance(node, ast.arg):
+                    self.assertNotIn(node.arg, taken, path.name)
+                elif isinstance(node, ast.Name) and isinstance(node.ctx, ast.Store):
+                    self.assertNotIn(node.id, taken, path.name)
+
+    def test_walked_on_the_spot(self):
+        for at, node in self.nodes():
+            if isinstance(node, (ast.Assign, ast.Return)) and isinstance(node.value, ast.Call):
+                called = node.value.func
+                name = called.id if isinstance(called, ast.Name) else called.attr
+                self.assertNotIn(name, {"zip", "enumerate", "reversed", "range", "items", "keys", "values", "set"}, at)
+
 
 if __name__ == "__main__":
     unittest.main()
