@@ -30,9 +30,13 @@ def finds(names, query, many):
     return first_rows(names, all_rows(names, query), many)
 
 
-def rank_of(names, query, number):
+def check_number(names, number):
     if number < 0 or number >= len(names):
         raise NoNumber("no name has this number")
+
+
+def rank_of(names, query, number):
+    check_number(names, number)
     for rank, row in enumerate(in_order(names, all_rows(names, query))):
         if row[1] == number:
             return rank

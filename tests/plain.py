@@ -1,5 +1,6 @@
 """Plain ways to tell what the program tells, for the tests to hold it against."""
 
+import collections
 import functools
 import itertools
 import re
@@ -59,13 +60,18 @@ def plain_rows(names, query):
     return [(told[0], number) for told, number in laid if told is not None]
 
 
-def plain_found(names, query):
-    """All that is found, in its order."""
-    rows = plain_rows(names, query)
+def plain_order(names, rows):
+    """Rows in the order in which they are found."""
     # Sorting keeps the order of what is alike, so the last sorting is the one that weighs most.
+    rows = sorted(rows, key=lambda row: row[1])
     rows.sort(key=lambda row: len(names[row[1]]))
     rows.sort(key=lambda row: row[0], reverse=True)
     return rows
+
+
+def plain_found(names, query):
+    """All that is found, in its order."""
+    return plain_order(names, plain_rows(names, query))
 
 
 def plain_bound(query, name):
@@ -88,6 +94,69 @@ def plain_found_by_bound(names, query, many):
             return (first, laid)
         if len(first) == many and first[-1][0] > -ahead[laid][0]:
             return (first, laid)
+
+
+def plain_by_words(text, name):
+    """What the words count together and all their places; None, where they do not fit."""
+    laid = [plain_best(word, name) for word in re.findall("[A-Za-z0-9]+", text)]
+    if None in laid:
+        return None
+    places = {place for counted, laying in laid for place in laying}
+    return (sum(counted for counted, laying in laid), [place for place in range(len(name)) if place in places])
+
+
+def plain_found_by_words(names, text):
+    laid = [(plain_by_words(text, name), number) for number, name in enumerate(names)]
+    return plain_order(names, [(told[0], number) for told, number in laid if told is not None])
+
+
+def plain_left(names, query):
+    """The numbers of all names that have signs enough, found by taking those of the query out of them."""
+    numbers = []
+    for number, name in enumerate(names):
+        exact = collections.Counter(sign for sign in query if not sign.islower())
+        either = collections.Counter(query.upper())
+        if not exact - collections.Counter(name) and not either - collections.Counter(name.upper()):
+            numbers.append(number)
+    return numbers
+
+
+def plain_telling(names):
+    told = []
+    for number, name in enumerate(names):
+        others = names[:number] + names[number + 1:]
+        signs = [sign for sign in name if sign.isalnum()]
+        alone = [
+            (length, "".join(chosen)) for length in range(4) for chosen in itertools.combinations(signs, length)
+            if not any(all_layings("".join(chosen), other) for other in others)
+        ]
+        told.append(min(alone)[1] if alone else None)
+    return told
+
+
+@functools.lru_cache(maxsize=None)
+def plain_rests(query):
+    """A dict of all rests with how many slips make them."""
+    rests = {}
+    for length in range(len(query), -1, -1):
+        for chosen in itertools.combinations(query, length):
+            rests.setdefault("".join(chosen), len(query) - length)
+    return rests
+
+
+def plain_with_slips(query, name, many):
+    """All rests that fit, the best first, as tuples (points, slips, rest, laying)."""
+    told = []
+    for rest, slips in plain_rests(query).items():
+        laid = plain_best(rest, name)
+        if slips <= many and laid is not None:
+            told.append((laid[0] - 15 * slips, slips, rest, laid[1]))
+    return sorted(told, key=lambda row: (-row[0], row[1], row[2]))
+
+
+def plain_found_with_slips(names, query, slips):
+    laid = [(plain_with_slips(query, name, slips), number) for number, name in enumerate(names)]
+    return plain_order(names, [(told[0][0], number) for told, number in laid if told])
 
 
 # Names and queries of few signs in all their orders, and longer ones of every kind of sign.

@@ -7,6 +7,7 @@ from fewfind.finding import finds
 from fewfind.names import is_query
 from fewfind.seekers import Seeker
 from plain import NAME_LISTS, all_layings, plain_found
+from steps import check_new_each_time, told
 
 NAMES = ["few_find", "fewFind", "Fox", "find", "xf", "f"]
 NO_SIGNS = ["", "ff", "fi", "_", "-", ".", "/", " ", "[", "~", "\n", "a ", "\u00e9", "\u0660", "\u017f"]
@@ -62,13 +63,6 @@ class PlainSeeker:
 def state(seeker):
     many = [seeker.now(many) for many in (0, 1, 2, 999)]
     return (seeker.typed(), seeker.fitting(), *many, seeker.looked())
-
-
-def told(seeker, step):
-    try:
-        return getattr(seeker, step[0])(*step[1:])
-    except (NoLetter, NoNumber) as refusal:
-        return type(refusal)
 
 
 def typed_seeker(names, query):
@@ -433,10 +427,7 @@ class EachByItself(unittest.TestCase):
         seeker = typed_seeker(["ab", "b", "aB"], "a")
         before = state(seeker)
         for tell in (seeker.fitting, lambda: seeker.now(9), lambda: seeker.now(1)):
-            tell().clear()
-            tell().append(7)
-            tell().reverse()
-            self.assertIsNot(tell(), tell())
+            check_new_each_time(self, tell)
             self.assertEqual(state(seeker), before)
         seeker.back()
         seeker.fitting().append(7)

@@ -5,6 +5,7 @@ from fewfind.errors import NoLaying, NoText
 from fewfind.points import best
 from fewfind.showing import read_shown, runs, shown
 from plain import LONG_NAMES, LONG_QUERIES, SHORT_NAMES, SHORT_QUERIES, all_layings, words
+from steps import check_new_each_time
 
 NO_PLACES = [
     ("ab", [1, 0]), ("abc", [0, 2, 1]), ("ab", [0, 0]), ("abc", [0, 1, 1]), ("abc", [1, 1, 2]), ("ab", [-1]),
@@ -160,12 +161,7 @@ class BackAgain(unittest.TestCase):
 class NewEachTime(unittest.TestCase):
     def test_told_lists_may_be_changed(self):
         for tell in (lambda: runs("abcd", [0, 1, 3]), lambda: read_shown("[ab]c[d]")[1], lambda: runs("a", [])):
-            once = tell()
-            kept = list(once)
-            once.append(9)
-            once.reverse()
-            self.assertEqual(tell(), kept)
-            self.assertIsNot(tell(), tell())
+            check_new_each_time(self, tell)
 
     def test_what_is_handed_in_stays_as_it_was(self):
         places = [0, 1, 3]

@@ -1,19 +1,26 @@
 """What holds for all names and queries, held against a plain list of all layings."""
 
+import itertools
+import random
 import unittest
 from unittest import mock
 
 import fewfind.seekers
 from fewfind.bounds import bound, found_by_bound
+from fewfind.choosing import Chooser
 from fewfind.errors import NoFit, NoLaying, NoNumber
 from fewfind.finding import finds, rank_of, ties
 from fewfind.names import first_laying, fits, how_many, is_laying, is_name, is_query, last_laying
 from fewfind.points import best, points
 from fewfind.seekers import Seeker
+from fewfind.sieves import Sieve, telling
+from fewfind.slips import best_with_slips, finds_with_slips, least_slips
+from fewfind.wording import fit_words, found_by_words, places_by_words, points_by_words
 from plain import (
     LONG_NAMES, LONG_QUERIES, NAME_LISTS, SHORT_NAMES, SHORT_QUERIES, all_layings, plain_best, plain_found,
     plain_points, plain_rows, words,
 )
+from steps import check_new_each_time
 
 
 def pairs():
@@ -137,6 +144,21 @@ class Found(unittest.TestCase):
                 self.assertEqual(told, found[:many], (names, query, many))
                 self.assertLessEqual(laid, len(names))
 
+    def test_through_a_sieve(self):
+        for names, query in lists_and_queries():
+            found = plain_found(names, query)
+            left = Sieve(names).left(query)
+            # The names that are left are numbered anew, and keep their order.
+            among = finds([names[number] for number in left], query, 999)
+            self.assertEqual([(count, left[number]) for count, number in among], found, (names, query))
+
+    def test_by_one_word_and_without_picks(self):
+        for names, query in lists_and_queries():
+            found = plain_found(names, query)
+            for many in (0, 1, 999):
+                self.assertEqual(found_by_words(names, query, many), found[:many], (names, query, many))
+                self.assertEqual(Chooser(names).found(query, many), found[:many], (names, query, many))
+
     def test_the_names_in_another_order(self):
         for names, query in lists_and_queries():
             turned = names[::-1]
@@ -180,16 +202,135 @@ class Bounds(unittest.TestCase):
                 self.assertGreaterEqual(bound(query, name), plain_best(query, name)[0], (query, name))
 
 
+class Sieves(unittest.TestCase):
+    def test_no_name_is_left_out_that_fits(self):
+        for names in NAME_LISTS + [SHORT_NAMES, LONG_NAMES]:
+            sieve = Sieve(names)
+            for query in SHORT_QUERIES + LONG_QUERIES:
+                left = set(sieve.left(query))
+                for number, name in enumerate(names):
+                    if fits(query, name):
+                        self.assertIn(number, left, (query, name))
+
+    def test_a_longer_query_leaves_no_more_names(self):
+        for names, query in lists_and_queries():
+            sieve = Sieve(names)
+            for length in range(len(query)):
+                self.assertLessEqual(set(sieve.left(query[: length + 1])), set(sieve.left(query[:length])))
+
+    def test_what_tells_a_name_finds_it_alone(self):
+        for names in NAME_LISTS:
+            for number, query in enumerate(telling(names)):
+                if query is not None:
+                    self.assertEqual([row[1] for row in plain_found(names, query)], [number], (names, query))
+                    self.assertIn(number, Sieve(names).left(query))
+
+
+class Words(unittest.TestCase):
+    def test_words_may_stand_in_any_order(self):
+        groups = [["a", "b"], ["ab", "A", "b"], ["a", "a", "b"], ["fi", "few", "F"], ["s", "txt", "find", "q"]]
+        for names in NAME_LISTS:
+            for group in groups:
+                told = [
+                    (
+                        found_by_words(names, text, 999),
+                        [(fit_words(text, name), points_by_words(text, name)) for name in names],
+                        [places_by_words(text, name) for name in names],
+                    )
+                    for text in map(" ".join, itertools.permutations(group))
+                ]
+                for other in told[1:]:
+                    self.assertEqual(other, told[0], (names, group))
+
+    def test_more_words_fit_no_more_names(self):
+        for names in NAME_LISTS:
+            for text in ("a", "a b", "few", "few f", "s r"):
+                for more in ("a", "B", "few", "q"):
+                    fewer = {row[1] for row in found_by_words(names, f"{text} {more}", 999)}
+                    self.assertLessEqual(fewer, {row[1] for row in found_by_words(names, text, 999)})
+
+
+class Picks(unittest.TestCase):
+    def check_a_pick(self, chooser, names, query, number, last):
+        before = [row[1] for row in chooser.found(query, 999)]
+        chooser.pick(number)
+        behind = [row[1] for row in chooser.found(query, 999)]
+        self.assertEqual(sorted(before), sorted(behind))
+        if number in before:
+            self.assertLessEqual(behind.index(number), before.index(number), (names, query, number))
+        # The name picked before loses what it had as the last one: all others stay as they were to one another.
+        moved = (number, last)
+        self.assertEqual(
+            [other for other in behind if other not in moved], [other for other in before if other not in moved]
+        )
+
+    def test_a_picked_name_is_found_no_later(self):
+        choices = random.Random(5)
+        for names in NAME_LISTS[1:]:
+            for query in ("", "a", "ab", "f", "ff", "s"):
+                chooser, last = Chooser(names), None
+                for step in range(25):
+                    number = choices.randrange(min(len(names), 6))
+                    self.check_a_pick(chooser, names, query, number, last)
+                    last = number
+
+    def test_without_picks_none_passes_another_one(self):
+        for names, query in lists_and_queries():
+            chooser = Chooser(names)
+            for number in range(min(len(names), 3)):
+                chooser.pick(number)
+                chooser.pick(number)
+            for number in range(min(len(names), 3)):
+                chooser.forget(number)
+            self.assertEqual(chooser.found(query, 999), plain_found(names, query), (names, query))
+
+
+class Slips(unittest.TestCase):
+    QUERIES = ["", "a", "ab", "ba", "aAb", "abab", "q", "fq", "few", "ffew", "sqt", "0b"]
+
+    def test_without_slips_just_those_are_found(self):
+        for names, query in lists_and_queries():
+            for many in (0, 1, 999):
+                self.assertEqual(finds_with_slips(names, query, 0, many), plain_found(names, query)[:many])
+
+    def test_with_slips_no_fewer_are_found(self):
+        for names in NAME_LISTS:
+            for query in self.QUERIES:
+                counts = [dict(row[::-1] for row in finds_with_slips(names, query, slips, 999)) for slips in range(6)]
+                for fewer, more in zip(counts, counts[1:]):
+                    for number in fewer:
+                        self.assertGreaterEqual(more[number], fewer[number], (names, query))
+                self.assertEqual(sorted(counts[len(query)]), list(range(len(names))))
+
+    def test_a_name_is_found_from_its_least_slips_on(self):
+        for names in NAME_LISTS:
+            for query in self.QUERIES:
+                for slips in range(len(query) + 1):
+                    found = sorted(row[1] for row in finds_with_slips(names, query, slips, 999))
+                    expected = [number for number, name in enumerate(names) if least_slips(query, name) <= slips]
+                    self.assertEqual(found, expected, (names, query, slips))
+
+    def test_the_rest_is_laid(self):
+        for query, name in itertools.islice(pairs(), 0, None, 7):
+            for many in (0, 1, 3):
+                told = best_with_slips(query, name, many)
+                self.assertIs(told is None, least_slips(query, name) > many)
+                if told is not None:
+                    counted, rest, laying = told
+                    slips = len(query) - len(rest)
+                    self.assertLessEqual(slips, many)
+                    self.assertEqual((counted + 15 * slips, laying), plain_best(rest, name), (query, name))
+
+
 class NewEachTime(unittest.TestCase):
     def test_told_lists_may_be_changed(self):
         for query in ("", "a", "ab", "abb"):
-            for tell in (first_laying, last_laying, lambda query, name: best(query, name)[1]):
-                once = tell(query, "a_ab-bB")
-                kept = list(once)
-                once.append(99)
-                once.reverse()
-                self.assertEqual(tell(query, "a_ab-bB"), kept)
-                self.assertIsNot(tell(query, "a_ab-bB"), tell(query, "a_ab-bB"))
+            for tell in (
+                lambda: first_laying(query, "a_ab-bB"),
+                lambda: last_laying(query, "a_ab-bB"),
+                lambda: best(query, "a_ab-bB")[1],
+            ):
+                check_new_each_time(self, tell)
 
     def test_kinds(self):
         self.assertIs(type(best("a", "a")), tuple)
@@ -233,13 +374,14 @@ class NewEachTime(unittest.TestCase):
             lambda: ties(names, "")[0][1],
             lambda: found_by_bound(names, "a", 9)[0],
             lambda: found_by_bound(names, "a", 0)[0],
+            lambda: found_by_words(names, "a b", 9),
+            lambda: found_by_words(names, "", 1),
+            lambda: places_by_words("a b", "ab"),
+            lambda: places_by_words("", "ab"),
+            lambda: finds_with_slips(names, "aq", 1, 9),
+            lambda: telling(names),
         ):
-            once = tell()
-            kept = list(once)
-            once.append(99)
-            once.reverse()
-            self.assertEqual(tell(), kept)
-            self.assertIsNot(tell(), tell())
+            check_new_each_time(self, tell)
 
     def test_lists_of_names_stay_as_they_were(self):
         names = ["ab", "xa", "b", "ab", "A"]
@@ -249,13 +391,21 @@ class NewEachTime(unittest.TestCase):
         ties(names, "a")
         found_by_bound(names, "a", 2)
         Seeker(names).add("x")
+        found_by_words(names, "a b", 2)
+        Chooser(names).pick(1)
+        Sieve(names).add("x")
+        telling(names)
+        finds_with_slips(names, "ax", 1, 2)
         with self.assertRaises(NoNumber):
             rank_of(names, "a", 5)
         self.assertEqual(names, kept)
 
     def test_lists_of_names_may_be_changed_then(self):
         names = ["ab", "xa"]
-        told = (finds(names, "a", 9), ties(names, "a"), found_by_bound(names, "a", 9))
+        told = (
+            finds(names, "a", 9), ties(names, "a"), found_by_bound(names, "a", 9), found_by_words(names, "a a", 9),
+            telling(names), finds_with_slips(names, "aq", 1, 9),
+        )
         kept = repr(told)
         names.append("a")
         names[0] = "b"
@@ -264,15 +414,23 @@ class NewEachTime(unittest.TestCase):
         self.assertEqual(ties(names, "a"), [(19, [2]), (10, [1])])
         self.assertEqual(found_by_bound(names, "a", 9), ([(19, 2), (10, 1)], 2))
         self.assertEqual(rank_of(names, "a", 2), 0)
+        self.assertEqual(found_by_words(names, "a a", 9), [(38, 2), (20, 1)])
+        self.assertEqual(telling(names), ["b", "x", None])
+        self.assertEqual(finds_with_slips(names, "aq", 1, 9), [(4, 2), (-5, 1)])
 
     def test_kinds_of_what_is_told_of_many(self):
-        for told in (finds(["a"], "a", 1), ties(["a"], "a"), found_by_bound(["a"], "a", 1)[0]):
+        for told in (
+            finds(["a"], "a", 1), ties(["a"], "a"), found_by_bound(["a"], "a", 1)[0], found_by_words(["a"], "", 1),
+        ):
             self.assertIs(type(told), list)
             self.assertIs(type(told[0]), tuple)
         self.assertIs(type(found_by_bound(["a"], "a", 1)), tuple)
         self.assertIs(type(ties(["a"], "a")[0][1]), list)
         self.assertIs(type(rank_of(["a"], "a", 0)), int)
         self.assertIs(type(bound("", "a")), int)
+        self.assertIs(type(points_by_words("", "a")), int)
+        self.assertIs(type(places_by_words("", "a")), list)
+        self.assertIs(type(telling([])), list)
 
     def test_a_refusal_changes_nothing(self):
         before = (best("ab", "a_bab"), first_laying("ab", "a_bab"), last_laying("ab", "a_bab"))
