@@ -10,6 +10,17 @@ def told(thing, step):
         return type(refusal)
 
 
+def stepped(thing, steps):
+    """The thing behind these steps, whatever they tell."""
+    for step in steps:
+        told(thing, step)
+    return thing
+
+
+def trail_state(trail):
+    return (trail.asked(), trail.chosen(), trail.steps(), trail.sizes())
+
+
 def check_new_each_time(case, tell):
     """A told list is a new one, and what is told stays as it was when the list is changed."""
     once = tell()

@@ -167,7 +167,8 @@ class FindsWithSlips(unittest.TestCase):
             finds_with_slips(self.NAMES, "ab", 2, 9),
             [(37, 0), (37, 6), (37, 7), (28, 3), (4, 1), (4, 2), (4, 5), (-30, 4)],
         )
-        self.assertEqual(finds_with_slips(["xxxb", "ab", "xb", "q", "z_"], "bz", 1, 9), [(4, 4), (-5, 1), (-5, 2), (-7, 0)])
+        names = ["xxxb", "ab", "xb", "q", "z_"]
+        self.assertEqual(finds_with_slips(names, "bz", 1, 9), [(4, 4), (-5, 1), (-5, 2), (-7, 0)])
         self.assertEqual(finds_with_slips(["abc", "_", "ab"], "qq", 2, 9), [(-30, 1), (-30, 2), (-30, 0)])
 
     def test_how_many(self):

@@ -8,14 +8,19 @@ from unittest import mock
 import fewfind.seekers
 from fewfind.bounds import bound, found_by_bound
 from fewfind.choosing import Chooser
-from fewfind.errors import NoFit, NoLaying, NoNumber
+from fewfind.errors import NoFit, NoLaying, NoNumber, NoText
 from fewfind.finding import finds, rank_of, ties
 from fewfind.names import first_laying, fits, how_many, is_laying, is_name, is_query, last_laying
+from fewfind.pages import Pager
 from fewfind.points import best, points
 from fewfind.seekers import Seeker
+from fewfind.showing import read_shown, shown
 from fewfind.sieves import Sieve, telling
 from fewfind.slips import best_with_slips, finds_with_slips, least_slips
+from fewfind.trails import Trail
+from fewfind.trailtexts import read_trail, trail_text
 from fewfind.wording import fit_words, found_by_words, places_by_words, points_by_words
+from fewfind.writing import read, written
 from plain import (
     LONG_NAMES, LONG_QUERIES, NAME_LISTS, SHORT_NAMES, SHORT_QUERIES, all_layings, plain_best, plain_found,
     plain_points, plain_rows, words,
@@ -322,6 +327,130 @@ class Slips(unittest.TestCase):
                     self.assertEqual((counted + 15 * slips, laying), plain_best(rest, name), (query, name))
 
 
+class Pages(unittest.TestCase):
+    def all_pages(self, pager):
+        if pager.pages() == 0:
+            return []
+        told = [pager.turn(0)]
+        while len(told) < pager.pages():
+            told.append(pager.turn(1))
+        return told
+
+    def test_all_that_is_found_and_nothing_twice(self):
+        for names, query in lists_and_queries():
+            found = plain_found(names, query)
+            for size in (1, 2, 3, len(found) or 1, len(found) + 1):
+                pager = Pager(names, size)
+                pager.ask(query)
+                if found:
+                    pager.move(-[row[1] for row in found].index(pager.pointed()[1]))
+                pages = self.all_pages(pager)
+                self.assertEqual([row for page in pages for row in page], found, (names, query, size))
+                self.assertEqual([len(page) for page in pages[:-1]], [size] * (len(pages) - 1))
+
+    def test_row_by_row(self):
+        for names, query in lists_and_queries():
+            found = plain_found(names, query)
+            pager = Pager(names, 2)
+            pager.ask(query)
+            rows = [pager.move(1) for row in found]
+            self.assertEqual(sorted(rows), sorted(found), (names, query))
+
+
+class Texts(unittest.TestCase):
+    def test_a_shown_name_reads_back(self):
+        for query, name in pairs():
+            told = plain_best(query, name)
+            if told is not None and len(name) <= 24:
+                self.assertEqual(read_shown(shown(name, told[1])), (name, told[1]))
+
+    def test_picks_read_back(self):
+        for names in NAME_LISTS:
+            chooser = Chooser(names)
+            for number in range(0, len(names), 2):
+                for pick in range(number % 7):
+                    chooser.pick(number)
+            rows = [(name, chooser.picked(number)) for number, name in enumerate(names)]
+            self.assertEqual(read(written(rows)), rows)
+
+    def test_read_back_as_nothing_else(self):
+        texts = {}
+        for rows in itertools.product([("a", 1), ("1", 1), ("a", 11), ("1a", 0)], repeat=3):
+            for length in range(4):
+                texts.setdefault(written(rows[:length]), rows[:length])
+                self.assertEqual(texts[written(rows[:length])], rows[:length])
+
+    def test_trails_read_back_as_nothing_else(self):
+        texts = {}
+        for names, trail in some_trails():
+            steps = texts.setdefault(trail_text(trail), trail.steps())
+            self.assertEqual(steps, trail.steps())
+            self.assertEqual(read_trail(names, trail_text(trail)).steps(), trail.steps())
+
+
+def some_trails():
+    choices = random.Random(20)
+    for row in range(200):
+        names = choices.choice(NAME_LISTS)[:12]
+        trail = Trail(names)
+        for step in range(choices.randrange(12)):
+            query = choices.choice(["", "a", "b", "ab", "f", "ff", "q", "s"])
+            many = trail.ask(query)
+            if many and choices.randrange(3):
+                trail.pick(choices.randrange(many))
+        yield names, trail
+
+
+class Trails(unittest.TestCase):
+    def test_what_is_picked_is_found_by_the_query_asked_then(self):
+        for names, trail in some_trails():
+            for query, number in trail.chosen():
+                self.assertIn(number, [row[1] for row in plain_found(names, query)], (names, query))
+            asked = [""]
+            picks = []
+            for kind, thing in trail.steps():
+                if kind == "pick":
+                    picks.append((asked[-1], thing))
+                asked.append(thing if kind == "ask" else "")
+            self.assertEqual(trail.chosen(), picks)
+            self.assertEqual(trail.asked(), asked[-1])
+
+    def test_back_and_forth_step_by_step(self):
+        for names, trail in some_trails():
+            steps = trail.steps()
+            told = []
+            while trail.sizes()[0]:
+                told.append((trail.asked(), trail.chosen(), trail.steps()))
+                self.assertEqual(trail.back(), steps[trail.sizes()[0]][0])
+                self.assertEqual(trail.steps(), steps[: trail.sizes()[0]])
+            self.assertEqual((trail.asked(), trail.chosen(), trail.sizes()), ("", [], (0, len(steps))))
+            while trail.sizes()[1]:
+                self.assertEqual(trail.forth(), steps[trail.sizes()[0] - 1][0])
+                self.assertEqual((trail.asked(), trail.chosen(), trail.steps()), told.pop())
+            self.assertEqual(told, [])
+
+
+class Together(unittest.TestCase):
+    def test_from_what_is_typed_to_what_is_written(self):
+        names = ["src/few_find.py", "src/fewFind.txt", "find_few", "fewer", "tests/few.py"]
+        seeker = Seeker(names)
+        self.assertEqual([seeker.letter(sign) for sign in "few"], [5, 5, 5])
+        found = seeker.now(9)
+        self.assertEqual(found, finds(names, "few", 9))
+        self.assertEqual(found, found_by_bound(names, "few", 9)[0])
+        self.assertEqual(found, found_by_words(names, "few", 9))
+        self.assertEqual(found, finds_with_slips(names, "few", 0, 9))
+        self.assertEqual([row[1] for row in found], [3, 2, 4, 0, 1])
+        self.assertEqual(shown(names[0], best("few", names[0])[1]), "src/[few]_find.py")
+        trail = Trail(names)
+        chooser = Chooser(names)
+        self.assertEqual(trail.ask("few"), 5)
+        chooser.pick(trail.pick(4))
+        self.assertEqual(chooser.found("few", 2), [(55, 3), (55, 1)])
+        self.assertEqual(trail_text(trail), "? few\n= 1\n")
+        self.assertEqual(written([(names[number], picks) for number, picks in chooser.usual(9)]), "1 src/fewFind.txt\n")
+
+
 class NewEachTime(unittest.TestCase):
     def test_told_lists_may_be_changed(self):
         for query in ("", "a", "ab", "abb"):
@@ -380,6 +509,9 @@ class NewEachTime(unittest.TestCase):
             lambda: places_by_words("", "ab"),
             lambda: finds_with_slips(names, "aq", 1, 9),
             lambda: telling(names),
+            lambda: read("1 a\n2 b\n"),
+            lambda: Trail(names).steps(),
+            lambda: Pager(names, 2).page(),
         ):
             check_new_each_time(self, tell)
 
@@ -396,6 +528,11 @@ class NewEachTime(unittest.TestCase):
         Sieve(names).add("x")
         telling(names)
         finds_with_slips(names, "ax", 1, 2)
+        Pager(names, 2).ask("a")
+        Trail(names).pick(0)
+        read_trail(names, "? a\n= 0\n")
+        with self.assertRaises(NoText):
+            read_trail(names, "? a\n= 2\n")
         with self.assertRaises(NoNumber):
             rank_of(names, "a", 5)
         self.assertEqual(names, kept)
