@@ -72,6 +72,10 @@ class BestWithSlips(unittest.TestCase):
         for many in (2, 3, 4, 5, 99, 10**18):
             self.assertEqual(best_with_slips("xabx", "ab", many), (7, "ab", [0, 1]), many)
 
+    def test_fewer_than_no_slips(self):
+        self.assertIsNone(best_with_slips("ab", "ab", -1))
+        self.assertIsNone(best_with_slips("", "ab", -5))
+
     def test_the_rest_without_signs(self):
         self.assertIsNone(best_with_slips("xy", "ab", 1))
         for many in (2, 3, 99):
